@@ -1,0 +1,1 @@
+"""Squarepapers: inequalities over fractions, each with a paper."""

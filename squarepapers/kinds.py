@@ -1,0 +1,39 @@
+"""What numbers, NAMEs and pairs are, and tuples made of lists."""
+
+
+def is_number(thing):
+    """Whether thing is a whole number; True and False are none."""
+    return isinstance(thing, int) and not isinstance(thing, bool)
+
+
+def is_name(thing):
+    """Whether thing is a NAME: one to eight letters a to z."""
+    if not isinstance(thing, str) or not 1 <= len(thing) <= 8:
+        return False
+    return all(["a" <= sign <= "z" for sign in thing])
+
+
+def is_pair(thing):
+    """Whether thing is a tuple of two."""
+    return isinstance(thing, tuple) and len(thing) == 2
+
+
+def rises(things):
+    """Whether each of things is above the one ahead."""
+    return all([one < other for one, other in zip(things, things[1:])])
+
+
+def are_named(thing, fits):
+    """Whether thing is a tuple of pairs of a NAME and what fits, NAMEs rising."""
+    if not isinstance(thing, tuple):
+        return False
+    if not all([is_pair(pair) and is_name(pair[0]) and fits(pair[1]) for pair in thing]):
+        return False
+    return rises([name for name, held in thing])
+
+
+def tupled(thing):
+    """The thing with a tuple for each list in it, however deep."""
+    if not isinstance(thing, (list, tuple)):
+        return thing
+    return tuple(map(tupled, thing))
