@@ -1,0 +1,47 @@
+"""What the interface lists is defined where it lists it, with the arguments told."""
+import ast
+import importlib
+import inspect
+import unittest
+from pathlib import Path
+
+PACKAGE = Path(__file__).resolve().parent.parent / "squarepapers"
+
+FUNCTIONS = {
+    "fractions": (
+        "is_fraction(thing)", "lowest(top, bottom)", "plus(one, other)", "less(one, other)", "times(one, other)",
+        "over(one, other)", "sign_of(fraction)", "compared(one, other)", "root_of(fraction)", "fraction_text(fraction)",
+        "fraction_in(text)",
+    ),
+    "forms": (
+        "is_form(thing)", "number_form(fraction)", "unknown(name)", "plus_of(one, other)", "less_of(one, other)",
+        "times_of(one, other)", "weighed(form, fraction)", "power_of(form, many)", "names_of(form)", "degree_of(form)",
+        "number_of(form)", "form_text(form)", "form_in(text)",
+    ),
+    "places": (
+        "is_place(thing)", "worth_at(form, place)", "put_in(form, pairs)", "turned(form, pairs)",
+        "by_powers(form, name)", "moved(place, way, fraction)",
+    ),
+    "formulas": ("is_formula(thing)", "worth_of(formula, place)", "unknowns_of(formula)"),
+    "formulatexts": ("formula_text(formula)", "formula_in(text)"),
+}
+
+
+class Interface(unittest.TestCase):
+    def test_arguments(self):
+        for file, heads in FUNCTIONS.items():
+            module = importlib.import_module("squarepapers." + file)
+            for head in heads:
+                with self.subTest(head):
+                    name = head.partition("(")[0]
+                    self.assertEqual(name + str(inspect.signature(getattr(module, name))), head)
+
+    def test_defined_in_its_file(self):
+        for file, heads in FUNCTIONS.items():
+            tree = ast.parse((PACKAGE / (file + ".py")).read_text())
+            defined = {node.name for node in tree.body if isinstance(node, ast.FunctionDef)}
+            self.assertLessEqual({head.partition("(")[0] for head in heads}, defined)
+
+
+if __name__ == "__main__":
+    unittest.main()
