@@ -11,6 +11,11 @@ def is_place(thing):
     return are_named(thing, is_fraction)
 
 
+def is_place_of(thing, names):
+    """Whether thing is a place of just these unknowns, a rising list."""
+    return is_place(thing) and [name for name, worth in thing] == names
+
+
 def worths_for(names, place):
     """The place's fractions by NAMEs; NoWorth of the first of names that it lacks."""
     worths = {name: tupled(worth) for name, worth in place}

@@ -24,6 +24,10 @@ FUNCTIONS = {
     ),
     "formulas": ("is_formula(thing)", "worth_of(formula, place)", "unknowns_of(formula)"),
     "formulatexts": ("formula_text(formula)", "formula_in(text)"),
+    "brought": ("parts_of(formula)", "splits_of(formula)", "brought(formula)", "lifted(formula, place)"),
+    "squares": ("squares_of(form)", "shows_squares(form, thing)"),
+    "alike": ("noughts_of(form)", "shows_noughts(form, thing)"),
+    "floors": ("floor_of(form)", "shows_floor(form, thing)"),
 }
 
 
