@@ -68,6 +68,11 @@ def form_from(text):
     return sum_of([term_in(part) for part in text.split(" + ")])
 
 
+def by_powers_of_x(*parts):
+    """The form in x that has these parts, tops and bottoms, at its powers 0, 1, 2, .."""
+    return sum_of([((("x", power),) if power else (), lowest(*part)) for power, part in enumerate(parts)])
+
+
 def has_just_unknowns(place, form):
     return is_place(place) and [name for name, worth in place] == names_of(form)
 

@@ -28,6 +28,9 @@ FUNCTIONS = {
     "squares": ("squares_of(form)", "shows_squares(form, thing)"),
     "alike": ("noughts_of(form)", "shows_noughts(form, thing)"),
     "floors": ("floor_of(form)", "shows_floor(form, thing)"),
+    "lines": ("lead_of(form)", "divided(one, other)", "slope_of(form)", "common_of(one, other)", "free_parts(form)"),
+    "chains": ("chain_of(form)", "roots_between(form, low, high)"),
+    "roots": ("parted(form, *, width=(1, 1000))", "shows_parted(form, thing, *, width=(1, 1000))"),
 }
 
 

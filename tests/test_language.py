@@ -87,6 +87,17 @@ class Language(unittest.TestCase):
                 if isinstance(node, ast.Name) and isinstance(node.ctx, ast.Load):
                     self.assertTrue(node.id in bound or node.id in BUILTINS, (path.name, node.id))
 
+    def test_no_local_name_is_an_import_or_a_class(self):
+        for path, text in sources():
+            tree = ast.parse(text)
+            taken = {alias.name for node in tree.body if isinstance(node, ast.ImportFrom) for alias in node.names}
+            taken |= {node.name for node in tree.body if isinstance(node, ast.ClassDef)}
+            for node in ast.walk(tree):
+                if isinstance(node, ast.arg):
+                    self.assertNotIn(node.arg, taken, path.name)
+                if isinstance(node, ast.Name) and not isinstance(node.ctx, ast.Load):
+                    self.assertNotIn(node.id, taken, path.name)
+
 
 if __name__ == "__main__":
     unittest.main()
