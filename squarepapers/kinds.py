@@ -34,6 +34,16 @@ def are_named(thing, fits):
 
 def tupled(thing):
     """The thing with a tuple for each list in it, however deep."""
-    if not isinstance(thing, (list, tuple)):
-        return thing
-    return tuple(map(tupled, thing))
+    # Papers may be deeper than calls may be nested: so all parts stand in one list, inner ones behind.
+    parts = [thing]
+    spans = []
+    at = 0
+    while at < len(parts):
+        part = parts[at]
+        if isinstance(part, (list, tuple)):
+            spans.append((at, len(parts), len(parts) + len(part)))
+            parts.extend(part)
+        at += 1
+    for at, start, end in reversed(spans):
+        parts[at] = tuple(parts[start:end])
+    return parts[0]

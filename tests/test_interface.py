@@ -31,6 +31,13 @@ FUNCTIONS = {
     "lines": ("lead_of(form)", "divided(one, other)", "slope_of(form)", "common_of(one, other)", "free_parts(form)"),
     "chains": ("chain_of(form)", "roots_between(form, low, high)"),
     "roots": ("parted(form, *, width=(1, 1000))", "shows_parted(form, thing, *, width=(1, 1000))"),
+    "claims": (
+        "is_claim(thing)", "fails_at(claim, place)", "unknowns_in(claim)", "claim_of(formula, *, under=())",
+        "stretch_of(claim)", "line_of(claim)", "line_noughts(claim, *, width=(1, 1000))",
+    ),
+    "steps": ("is_step(thing)", "told_by(step, given, *, known=(), first=())"),
+    "papers": ("is_paper(thing)", "shows(claim, thing, *, known=())", "leans_on(paper)"),
+    "makings": ("turned_claim(claim, pairs)", "turned_paper(paper, pairs)", "summed(one, other)", "joined(papers)"),
 }
 
 
