@@ -47,12 +47,22 @@ def claim_of(formula, *, under=()):
     return (conditions, goal_with(whole, roots))
 
 
+def condition_degree(claim):
+    """The greatest degree of a condition, 0 without one."""
+    return max([degree_of(condition) for condition in claim[0]], default=0)
+
+
+def is_line(claim):
+    """Whether the claim is a line."""
+    return len(unknowns_in(claim)) < 2 and condition_degree(claim) < 2
+
+
 def refuse_no_line(claim):
     """Refuses a claim that isn't a line."""
     names = unknowns_in(claim)
     if len(names) > 1:
         raise BadUnknowns(names)
-    degree = max([degree_of(condition) for condition in claim[0]], default=0)
+    degree = condition_degree(claim)
     if degree > 1:
         raise BadDegree(degree)
 
@@ -159,11 +169,9 @@ def line_noughts(claim, *, width=WIDTH):
         return []
     low, high = stretch
     pairs = parted(goal, width=width)
-    first, end = 0, len(pairs)
+    first = 0
     if low is not None:
         # Low itself is in the stretch.
         at_low = 1 if sign_at(column_of(goal)[1], low) == 0 else 0
         first = roots_between(goal, None, low) - at_low
-    if high is not None:
-        end = roots_between(goal, None, high)
-    return pairs[first:end]
+    return pairs[first:roots_between(goal, None, high)]

@@ -47,3 +47,28 @@ def tupled(thing):
     for at, start, end in reversed(spans):
         parts[at] = tuple(parts[start:end])
     return parts[0]
+
+
+def sort_of(thing):
+    """A word for what == doesn't tell apart: lists, tuples, True and False, and the rest."""
+    if isinstance(thing, bool):
+        return "truth"
+    if isinstance(thing, list):
+        return "list"
+    return "tuple" if isinstance(thing, tuple) else "plain"
+
+
+def are_alike(one, other):
+    """Whether both are the same, lists not for tuples, nor True and False for numbers, however deep."""
+    waiting = [(one, other)]
+    while waiting:
+        front, back = waiting.pop()
+        if sort_of(front) != sort_of(back):
+            return False
+        if isinstance(front, (list, tuple)):
+            if len(front) != len(back):
+                return False
+            waiting.extend([pair for pair in zip(front, back)])
+        elif front != back:
+            return False
+    return True

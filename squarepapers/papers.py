@@ -1,8 +1,8 @@
 """Papers: what shows claims, some claims being known, some shown first."""
 
-from squarepapers.claims import stretch_of, unknowns_in
+from squarepapers.claims import is_line, stretch_of, unknowns_in
 from squarepapers.columns import column_of, sign_at
-from squarepapers.forms import degree_of, less_of, number_form, number_of, plus_of, times_of, unknown, weighed
+from squarepapers.forms import less_of, number_form, number_of, plus_of, times_of, unknown, weighed
 from squarepapers.kinds import tupled
 from squarepapers.linepapers import shows_line
 from squarepapers.places import turned
@@ -32,7 +32,7 @@ def shows(claim, thing, *, known=()):
 
 def leans_on(paper):
     """The rising list of the NAMEs of known in the paper."""
-    return names_known(tupled(paper))
+    return names_known(paper)
 
 
 def left_to_show(claim, paper, known, first):
@@ -87,13 +87,12 @@ def shows_by_steps(claim, paper, known, first):
 
 def shows_by_line(claim, paper):
     """Whether a paper of a line, or of one fraction, shows the claim."""
-    names = unknowns_in(claim)
-    conditions, goal = claim
-    if len(names) > 1 or not all([degree_of(condition) < 2 for condition in conditions]):
+    if not is_line(claim):
         return False
     stretch = stretch_of(claim)
     if stretch is None:
         return False
+    goal = claim[1]
     if stretch[0] is None or stretch[0] != stretch[1]:
-        return paper[0] == "line" and shows_line(goal, names, stretch, paper)
+        return paper[0] == "line" and shows_line(goal, unknowns_in(claim), stretch, paper)
     return paper[0] == "one" and sign_at(column_of(goal)[1], stretch[0]) >= 0

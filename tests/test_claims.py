@@ -205,6 +205,9 @@ class ClaimOf(unittest.TestCase):
         self.assertEqual(told, claim_of(formula=formula, under=list(under)))
         self.assertFalse(has_list(told))
         self.assertTrue(is_claim(told))
+        root = formula_in("root(x)")
+        self.assertEqual(claim_of(nested_list(root), under=(root,)), claim_of(root, under=(root,)))
+        self.assertEqual(claim_of(root, under=[nested_list(root)]), claim_of(root, under=(root,)))
         self.assertEqual(handed, [nested_list(formula), nested_list(under)])
         with self.assertRaises(TypeError):
             claim_of(formula, under)

@@ -468,6 +468,15 @@ class Lines(unittest.TestCase):
         rows += ((ONE, (1, 1), form_from("-2")),)
         self.shown(self.ABOVE, self.goal(), ("line", self.S, self.T, rows, (2, 1)))
 
+    def test_rows_of_other_unknowns(self):
+        # x + 1, 1, y, -1: each one is as told, and y's sign would be x's.
+        t = form_from("1*x + 1")
+        rows = ((plus_of(t, Y), (1, 1), Y), ((), (1, 1), form_from("-1")))
+        self.shown((X,), t, ("line", ONE, t, rows, (1, 1)), False)
+        rows = ((plus_of(t, X), (1, 1), X), ((), (1, 1), form_from("-1")))
+        self.shown((X,), t, ("line", ONE, t, rows, (1, 1)))
+        self.shown((X,), t, ("line", ONE, t, (), (1, 1)))
+
     def test_samples(self):
         for sample, told in (
             ((2, 1), True), ((151, 100), True), ((10 ** 60, 1), True), ((3, 2), False), ((149, 100), False), ((0, 1), False), ((-2, 1), False),
