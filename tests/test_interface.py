@@ -38,7 +38,18 @@ FUNCTIONS = {
     "steps": ("is_step(thing)", "told_by(step, given, *, known=(), first=())"),
     "papers": ("is_paper(thing)", "shows(claim, thing, *, known=())", "leans_on(paper)"),
     "makings": ("turned_claim(claim, pairs)", "turned_paper(paper, pairs)", "summed(one, other)", "joined(papers)"),
+    "seeking": ("seek(claim)",),
+    "book": ("book_paper(book)", "shows_book(book, thing)"),
+    "claimtexts": ("claim_text(claim)", "claim_in(text)", "place_text(place)", "place_in(text)"),
+    "desk": ("run(text)",),
 }
+METHODS = (
+    "say(self, name, claim)", "show(self, name, paper)", "fail(self, name, place)", "find(self, name)",
+    "change(self, name, claim)", "drop(self, name)", "do(self, deeds)", "undo(self)", "all_names(self)",
+    "claim(self, name)", "state(self, name)", "paper(self, name)", "where(self, name)", "leans(self, name)",
+    "all_leans(self, name)", "leaning(self, name)", "one_paper(self, name)", "deeds(self)", "as_of(self, many)",
+    "twin(self)", "calls(self, *, first=0)", "__eq__(self, other)", "__len__(self)", "__repr__(self)",
+)
 
 
 class Interface(unittest.TestCase):
@@ -55,6 +66,19 @@ class Interface(unittest.TestCase):
             tree = ast.parse((PACKAGE / (file + ".py")).read_text())
             defined = {node.name for node in tree.body if isinstance(node, ast.FunctionDef)}
             self.assertLessEqual({head.partition("(")[0] for head in heads}, defined)
+
+    def test_book(self):
+        tree = ast.parse((PACKAGE / "book.py").read_text())
+        books = [node for node in tree.body if isinstance(node, ast.ClassDef) and node.name == "Book"]
+        self.assertEqual(len(books), 1)
+        defined = {node.name for node in books[0].body if isinstance(node, ast.FunctionDef)}
+        made = importlib.import_module("squarepapers.book").Book
+        self.assertEqual(str(inspect.signature(made)), "()")
+        for head in METHODS:
+            with self.subTest(head):
+                name = head.partition("(")[0]
+                self.assertIn(name, defined)
+                self.assertEqual(name + str(inspect.signature(getattr(made, name))), head)
 
 
 if __name__ == "__main__":
