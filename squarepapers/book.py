@@ -76,7 +76,7 @@ class Book:
             self.entries.append(("out", word))
         return made
 
-    def row(self, name):
+    def triple(self, name):
         """The triple of claim, state and what there is of it."""
         return row_of(self.past[-1], name)
 
@@ -86,25 +86,25 @@ class Book:
 
     def claim(self, name):
         """The claim of that NAME."""
-        return self.row(name)[0]
+        return self.triple(name)[0]
 
     def state(self, name):
         """Its state: open, shown or failed."""
-        return self.row(name)[1]
+        return self.triple(name)[1]
 
     def paper(self, name):
         """Its paper, None where there's none."""
-        claim, state, what = self.row(name)
+        claim, state, what = self.triple(name)
         return what if state == "shown" else None
 
     def where(self, name):
         """Its place, None where there's none."""
-        claim, state, what = self.row(name)
+        claim, state, what = self.triple(name)
         return what if state == "failed" else None
 
     def leans(self, name):
         """The rising list of the NAMEs on which its paper leans."""
-        self.row(name)
+        self.triple(name)
         return leans_of(self.past[-1], name)
 
     def all_leans(self, name):
@@ -113,7 +113,7 @@ class Book:
 
     def leaning(self, name):
         """The rising list of the NAMEs that lean on it, straight or through others."""
-        self.row(name)
+        self.triple(name)
         return leaning_on(self.past[-1], name)
 
     def one_paper(self, name):
@@ -157,7 +157,7 @@ def book_paper(book):
     """The rising list of (NAME, claim, state, what), what the paper, the place or None."""
     found = []
     for name in book.all_names():
-        claim, state, what = book.row(name)
+        claim, state, what = book.triple(name)
         found.append((name, claim, state, what))
     return found
 
