@@ -144,7 +144,7 @@ class Book:
         return self.entries[first:]
 
     def __eq__(self, other):
-        return isinstance(other, Book) and self.past[-1] == other.past[-1]
+        return isinstance(other, Book) and are_alike(book_paper(self), book_paper(other))
 
     def __len__(self):
         return len(self.past[-1])

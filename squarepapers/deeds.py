@@ -110,7 +110,8 @@ def find_in(rows, name):
 def change_in(rows, name, claim):
     """Another claim by that NAME; it, and all that lean on it, are open."""
     row_of(rows, name)
-    return ({**opened(rows, name), name: (claim, "open", None)}, None)
+    left = opened(rows, name)
+    return ({**left, name: (claim, "open", None)}, None)
 
 
 def drop_in(rows, name):

@@ -561,6 +561,39 @@ class Same(BookCase):
             self.assertFalse(Book() == thing)
             self.assertTrue(Book() != thing)
 
+    def test_deep_papers(self):
+        book = Book()
+        paper = BY_SQUARE
+        names = "abcdefghijkl"
+        for at, name in enumerate(names):
+            book.say(name, SQUARE)
+            step = known(names[at - 1]) if at else ("square", form_from("1*x"))
+            for _ in range(65):
+                step = ("times", ("number", (1, 1)), ("sum", ("number", (0, 1)), step))
+            paper = ("cases", form_from("1*x"), ("step", step), paper) if at % 2 else ("step", step)
+            book.show(name, paper)
+        one = book.one_paper("l")
+        self.assertIs(shows(SQUARE, one), True)
+        for many in range(6):
+            one = ("first", SQUARE, one, ("step", ("use", 0, ())))
+            for at in range(150):
+                # Other unlike NAMEs each time: what an order adds isn't the same turned about.
+                letters = "abcdef"[many] + "abcdefghij"[at // 15] + "abcdefghijklmno"[at % 15]
+                one = ("order", ("y" + letters, "z" + letters), one)
+            book.show("a", one)
+            one = book.one_paper("b")
+        anew = Book()
+        for name in names:
+            anew.say(name, nested_list(SQUARE))
+            anew.show(name, ("order", ("y", "z"), book.paper(name)))
+        self.assertTrue(anew != book)
+        for name in names:
+            anew.show(name, book.paper(name))
+        self.assertTrue(anew == book)
+        self.assertIs(shows_book(book, book_paper(anew)), True)
+        book.change("a", SQUARE)
+        self.assertEqual(states(book), "o" * 12)
+
     def test_len_and_repr(self):
         self.assertEqual((len(Book()), repr(Book())), (0, "Book(0)"))
         book = Book()
